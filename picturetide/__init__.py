@@ -1,0 +1,1 @@
+"""Picturetide: moving pictures whose damage is told."""

@@ -1,0 +1,78 @@
+"""Every name of the interface stands in its file, with the parameters that the document names."""
+
+import importlib
+import inspect
+import unittest
+
+FUNCTIONS = {
+    "pictures": {
+        "is_picture": ["value"],
+        "size_of": ["picture"],
+        "plain": ["rows", "columns", "value"],
+        "value_at": ["picture", "y", "x"],
+        "greatest_error": ["picture", "other"],
+        "first_unlike": ["picture", "other"],
+        "band_of": ["picture", "number"],
+        "with_band": ["picture", "number", "rows"],
+    },
+    "picturetext": {
+        "picture_text": ["picture"],
+        "read_picture": ["text"],
+    },
+}
+
+CLASSES = {
+    "errors": {
+        "InvalidPicture": {"__init__": ["value"]},
+        "InvalidStream": {"__init__": ["value"]},
+        "InvalidPlan": {"__init__": ["value"]},
+        "InvalidTree": {"__init__": ["value"]},
+        "InvalidNumber": {"__init__": ["value"]},
+        "InvalidClaim": {"__init__": ["value"]},
+        "InvalidText": {"__init__": ["text", "at"]},
+        "InvalidLine": {"__init__": ["line", "at"]},
+        "Refused": {"__init__": ["claim"]},
+        "NoKey": {"__init__": ["number"]},
+        "TooLong": {"__init__": ["number"]},
+        "UnknownName": {"__init__": ["name"]},
+        "NothingToUndo": {"__init__": ["word"]},
+        "Undefined": {"__init__": ["what"]},
+    },
+}
+
+
+def module_of(name):
+    return importlib.import_module("picturetide." + name)
+
+
+class Interface(unittest.TestCase):
+    def assert_parameters(self, function, names):
+        parameters = inspect.signature(function).parameters
+        self.assertEqual(list(parameters), names)
+        for parameter in parameters.values():
+            self.assertIs(parameter.kind, inspect.Parameter.POSITIONAL_OR_KEYWORD)
+            self.assertIs(parameter.default, inspect.Parameter.empty)
+
+    def test_functions(self):
+        for module_name, functions in FUNCTIONS.items():
+            for name, names in functions.items():
+                with self.subTest(module=module_name, name=name):
+                    function = getattr(module_of(module_name), name)
+                    self.assertTrue(inspect.isfunction(function))
+                    self.assertEqual(function.__module__, "picturetide." + module_name)
+                    self.assert_parameters(function, names)
+
+    def test_classes(self):
+        for module_name, classes in CLASSES.items():
+            for name, methods in classes.items():
+                cls = getattr(module_of(module_name), name)
+                self.assertTrue(inspect.isclass(cls))
+                self.assertEqual(cls.__module__, "picturetide." + module_name)
+                for method, names in methods.items():
+                    with self.subTest(module=module_name, name=name, method=method):
+                        self.assertIn(method, vars(cls))
+                        self.assert_parameters(vars(cls)[method], ["self"] + names)
+
+
+if __name__ == "__main__":
+    unittest.main()
