@@ -35,6 +35,18 @@ BARRED_NODES = (
 )
 
 
+BARRED_WORDS = (
+    "typing|typing_extensions|enum|Enum|IntEnum|StrEnum|Flag|IntFlag|Generic|Protocol|ABC|ABCMeta|namedtuple"
+    "|NamedTuple|TypedDict|TYPE_CHECKING|abstractmethod"
+)
+
+METHODS_OF_VALUES = set(
+    "append clear copy count endswith extend find get index insert isalnum isalpha isdigit islower isspace isupper"
+    " items join keys ljust lower lstrip partition pop remove replace reverse rfind rjust rpartition rsplit rstrip"
+    " setdefault split splitlines startswith strip update upper values zfill bit_length sort add discard".split()
+)
+
+
 def sources():
     return sorted(path for path in PACKAGE.rglob("*.py"))
 
@@ -54,6 +66,28 @@ def names_of(node):
     if isinstance(node, ast.Attribute):
         return [node.attr]
     return []
+
+
+def functions_of(path):
+    return [node for node in nodes_of(path) if isinstance(node, ast.FunctionDef)]
+
+
+def names_assigned_in(function):
+    """The parameters of a function and the names that it assigns."""
+    found = {node.arg for node in ast.walk(function) if isinstance(node, ast.arg)}
+    names = [node for node in ast.walk(function) if isinstance(node, ast.Name)]
+    return found | {node.id for node in names if isinstance(node.ctx, ast.Store)}
+
+
+def names_imported(path):
+    imports = [node for node in nodes_of(path) if isinstance(node, ast.ImportFrom)]
+    return [alias.name for node in imports for alias in node.names]
+
+
+def names_at_module_level(path):
+    body = ast.parse(path.read_text(encoding="utf-8")).body
+    defined = [one.name for one in body if isinstance(one, (ast.FunctionDef, ast.ClassDef))]
+    return defined + [one.targets[0].id for one in body if isinstance(one, ast.Assign)] + names_imported(path)
 
 
 class Form(unittest.TestCase):
@@ -136,6 +170,65 @@ class Form(unittest.TestCase):
                         self.assertTrue(name.isascii())
                         if isinstance(node, (ast.Name, ast.arg, ast.ClassDef)):
                             self.assertNotIn(name, others)
+
+    def test_each_name_is_bound_once_at_module_level(self):
+        for path in sources():
+            names = names_at_module_level(path)
+            with self.subTest(path=path.name):
+                self.assertEqual(len(names), len(set(names)))
+
+    def test_names_of_imports_and_functions_mean_nothing_else(self):
+        for path in sources():
+            for function in functions_of(path):
+                with self.subTest(path=path.name, function=function.name):
+                    self.assert_none(sorted(names_assigned_in(function) & set(names_at_module_level(path))))
+
+    def test_each_import_is_used(self):
+        for path in sources():
+            read = {node.id for node in nodes_of(path) if isinstance(node, ast.Name)}
+            with self.subTest(path=path.name):
+                self.assert_none([name for name in names_imported(path) if name not in read])
+
+    def test_no_file_imports_from_one_that_imports_from_it(self):
+        ahead = {}
+        for path in sources():
+            imports = [node for node in nodes_of(path) if isinstance(node, ast.ImportFrom)]
+            ahead[path.stem] = {node.module.split(".")[-1] for node in imports if node.module not in LIBRARY}
+        while ahead:
+            free = [name for name, needed in ahead.items() if not needed & set(ahead)]
+            self.assertTrue(free, ahead)
+            for name in free:
+                del ahead[name]
+
+    def test_words(self):
+        for path in sources():
+            with self.subTest(path=path.name):
+                self.assert_none(re.findall(rf"\b(?:{BARRED_WORDS})\b", path.read_text(encoding="utf-8")))
+
+    def test_exponents(self):
+        for path in sources():
+            powers = [node for node in nodes_of(path) if isinstance(node, ast.BinOp) and isinstance(node.op, ast.Pow)]
+            with self.subTest(path=path.name):
+                self.assert_none([node.lineno for node in powers if not isinstance(node.right, ast.Constant)])
+
+    def test_is_stands_with_none_true_and_false_alone(self):
+        for path in sources():
+            for node in nodes_of(path):
+                if isinstance(node, ast.Compare) and isinstance(node.ops[0], (ast.Is, ast.IsNot)):
+                    with self.subTest(path=path.name, line=node.lineno):
+                        self.assertIsInstance(node.comparators[0], ast.Constant)
+
+    def test_methods_that_are_called_and_attributes_that_are_read(self):
+        nodes = [node for path in sources() for node in nodes_of(path)]
+        attributes = [node for node in nodes if isinstance(node, ast.Attribute)]
+        known = {node.attr for node in attributes if isinstance(node.ctx, ast.Store)}
+        for node in nodes:
+            if isinstance(node, ast.ClassDef):
+                known |= {one.name for one in node.body if isinstance(one, ast.FunctionDef)}
+        self.assert_none([
+            (node.attr, node.lineno) for node in attributes
+            if node.attr not in known | METHODS_OF_VALUES and not node.attr.startswith("__")
+        ])
 
 
 if __name__ == "__main__":

@@ -19,6 +19,26 @@ FUNCTIONS = {
         "picture_text": ["picture"],
         "read_picture": ["text"],
     },
+    "transforms": {
+        "stepped": ["row"],
+        "stepped_back": ["row"],
+        "forward": ["square"],
+        "backward": ["square"],
+    },
+    "quanta": {
+        "level_of": ["c", "q"],
+        "levels": ["square", "q"],
+        "unlevelled": ["square", "q"],
+        "place_bound": ["n", "q"],
+    },
+    "numbers": {
+        "put_number": ["coder", "word", "v"],
+        "put_signed": ["coder", "word", "v"],
+        "get_number": ["decoder", "word"],
+        "get_signed": ["decoder", "word"],
+        "price_of": ["v"],
+        "price_of_signed": ["v"],
+    },
 }
 
 CLASSES = {
@@ -37,6 +57,10 @@ CLASSES = {
         "UnknownName": {"__init__": ["name"]},
         "NothingToUndo": {"__init__": ["word"]},
         "Undefined": {"__init__": ["what"]},
+    },
+    "coders": {
+        "Coder": {"__init__": [], "put": ["context", "bit"], "octets": [], "state": []},
+        "Decoder": {"__init__": ["octets"], "get": ["context"], "state": []},
     },
 }
 
