@@ -55,11 +55,21 @@ def nearest(number, count):
     return min(max(number, 0), count - 1)
 
 
+def near_value(picture, y, x):
+    """That which value_at tells of what is known to be a picture."""
+    row = picture[nearest(y, len(picture))]
+    return row[nearest(x, len(row))]
+
+
 def value_at(picture, y, x):
     """The value of the picture at the place nearest to (y, x)."""
     check_picture(picture)
-    row = picture[nearest(y, len(picture))]
-    return row[nearest(x, len(row))]
+    return near_value(picture, y, x)
+
+
+def clipped(number):
+    """That of the values which is nearest to number."""
+    return nearest(number, VALUE_LIMIT)
 
 
 def greatest_error(picture, other):

@@ -39,6 +39,24 @@ FUNCTIONS = {
         "price_of": ["v"],
         "price_of_signed": ["v"],
     },
+    "trees": {
+        "is_band_tree": ["value", "blocks"],
+        "leaves_of": ["tree"],
+        "price_of_tree": ["tree"],
+        "price_of_band": ["trees"],
+    },
+    "bands": {
+        "band_octets": ["trees"],
+        "read_band": ["octets", "blocks", "kind"],
+    },
+    "predictions": {
+        "halfway": ["picture", "v", "h"],
+        "predicted": ["rows", "area", "mode"],
+        "moved": ["picture", "top", "area", "dy", "dx"],
+    },
+    "leaves": {
+        "band_shown": ["trees", "top", "slots"],
+    },
 }
 
 CLASSES = {
