@@ -3,7 +3,7 @@
 from picturetide.coders import Coder, Decoder
 from picturetide.numbers import get_number, get_signed, put_number, put_signed
 from picturetide.trees import BLOCK, LEAST, MODES, QUANTA, QUARTERS
-from picturetide.trees import check_band_tree, has_motion, is_band_tree, is_empty
+from picturetide.trees import check_band_tree, is_band_tree_of_kind, is_empty
 
 
 def word_of_level(row, column):
@@ -97,6 +97,6 @@ def read_band(octets, blocks, kind):
     """The band tree of so many blocks whose octets these are, or None; in a key picture it has no motion."""
     decoder = Decoder(octets)
     trees = tuple([get_tree(decoder, BLOCK) for block in range(blocks)])
-    if not is_band_tree(trees, blocks) or (kind == "key" and has_motion(trees)):
+    if not is_band_tree_of_kind(trees, blocks, kind):
         return None
     return trees if band_octets(trees) == octets else None

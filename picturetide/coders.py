@@ -1,5 +1,7 @@
 """The interval coder: bits with contexts put into octets, and got back from them."""
 
+from picturetide.basics import OCTET_LIMIT, figures
+
 EVEN_CHANCE = 2048
 WHOLE_CHANCE = 4096
 # The greater, the slower a chance follows the bits of its context.
@@ -7,7 +9,6 @@ SLOWNESS = 32
 FIRST_WIDTH = 2 ** 32
 LEAST_WIDTH = 2 ** 24
 FIRST_COUNT = 4
-BASE = 256
 
 
 class Interval:
@@ -39,23 +40,13 @@ class Interval:
             self.width = self.width - cut
             self.chances[context] = chance - chance // SLOWNESS
         while self.width < LEAST_WIDTH:
-            self.low = self.low * BASE
-            self.width = self.width * BASE
+            self.low = self.low * OCTET_LIMIT
+            self.width = self.width * OCTET_LIMIT
             self.count = self.count + 1
 
     def state(self):
         """The three numbers."""
         return (self.low, self.width, self.count)
-
-
-def figures(number, count):
-    """So many figures of a number to the base 256, the greatest first."""
-    found = []
-    rest = number
-    for _ in range(count):
-        rest, figure = divmod(rest, BASE)
-        found.append(figure)
-    return tuple(found[::-1])
 
 
 class Coder:
@@ -75,8 +66,8 @@ class Coder:
         greatest = low + width - 1
         while count > 0:
             # What one figure less can tell are those numbers of the interval that end in a 0.
-            shorter_least = (least + BASE - 1) // BASE
-            shorter_greatest = greatest // BASE
+            shorter_least = (least + OCTET_LIMIT - 1) // OCTET_LIMIT
+            shorter_greatest = greatest // OCTET_LIMIT
             if shorter_least > shorter_greatest:
                 break
             least = shorter_least
@@ -103,7 +94,7 @@ class Decoder:
         """Let number be that of as many octets as the interval counts."""
         while self.taken < self.interval.count:
             octet = self.source[self.taken] if self.taken < len(self.source) else 0
-            self.number = self.number * BASE + octet
+            self.number = self.number * OCTET_LIMIT + octet
             self.taken = self.taken + 1
 
     def get(self, context):

@@ -12,44 +12,46 @@ def mean(values):
 
 
 def above_of(rows, area):
-    """The values above an area; none in the first row."""
+    """The members above an area; none in the first row."""
     y, x, n = area
     return tuple(rows[y - 1][x:x + n]) if y > 0 else ()
 
 
 def left_of(rows, area):
-    """The values left of an area; none in the first column."""
+    """The members left of an area; none in the first column."""
     y, x, n = area
     return tuple([row[x - 1] for row in rows[y:y + n]]) if x > 0 else ()
 
 
-def flat(above, left, n):
-    """One value for the whole area: the mean of those around it."""
+def slope_value(upper, side, corner):
+    """The value above, with what the one to the left has more than the corner between them."""
+    return clipped(upper + side - corner)
+
+
+def made_of_neighbours(rows, area, mode, of_all, of_three, unknown):
+    """The members of an area as a mode other than motion makes them of those above and to the left.
+
+    of_all makes one member of all that are there, of_three one of those above, left and in the corner; unknown stands
+    where nothing is there to ask.
+    """
+    y, x, n = area
+    above = above_of(rows, area)
+    left = left_of(rows, area)
+    free = (unknown,) * n
+    if mode == "down":
+        return (above or free,) * n
+    if mode == "right":
+        return tuple([(member,) * n for member in left or free])
+    if mode == "slope" and above and left:
+        corner = rows[y - 1][x - 1]
+        return tuple([tuple([of_three(upper, side, corner) for upper in above]) for side in left])
     around = above + left
-    value = mean(around) if around else GREY
-    return ((value,) * n,) * n
-
-
-def slope(above, left, corner):
-    """The values above, with what those to the left have more than the corner."""
-    return tuple([tuple([clipped(upper + side - corner) for upper in above]) for side in left])
+    return ((of_all(around) if around else unknown,) * n,) * n
 
 
 def predicted(rows, area, mode):
     """The area as a mode other than motion expects it."""
-    y, x, n = area
-    above = above_of(rows, area)
-    left = left_of(rows, area)
-    grey = (GREY,) * n
-    if mode == "down":
-        row = above or grey
-        return (row,) * n
-    if mode == "right":
-        column = left or grey
-        return tuple([(value,) * n for value in column])
-    if mode == "slope" and above and left:
-        return slope(above, left, rows[y - 1][x - 1])
-    return flat(above, left, n)
+    return made_of_neighbours(rows, area, mode, mean, slope_value, GREY)
 
 
 def halves(place):
@@ -57,15 +59,23 @@ def halves(place):
     return (place // 2, place // 2 + 1) if place & 1 else (place // 2,)
 
 
-def half_value(picture, v, h):
-    """That which halfway tells of what is known to be a picture."""
-    return mean([near_value(picture, y, x) for y in halves(v) for x in halves(h)])
+def asked_at(picture, v, h):
+    """The one, two or four members that are asked at a place told in halves."""
+    return [near_value(picture, y, x) for y in halves(v) for x in halves(h)]
 
 
 def halfway(picture, v, h):
     """The value of a picture at a place told in halves."""
     check_picture(picture)
-    return half_value(picture, v, h)
+    return mean(asked_at(picture, v, h))
+
+
+def asked_by_motion(picture, top, area, dy, dx):
+    """For each place of an area the members that are asked of a picture that is moved by dy and dx halves."""
+    y, x, n = area
+    downs = [2 * (top + y + i) + dy for i in range(n)]
+    acrosses = [2 * (x + k) + dx for k in range(n)]
+    return [[asked_at(picture, v, h) for h in acrosses] for v in downs]
 
 
 def expected_motion(picture, top, area, dy, dx):
@@ -73,10 +83,7 @@ def expected_motion(picture, top, area, dy, dx):
     y, x, n = area
     if picture is None:
         return ((GREY,) * n,) * n
-    rows = []
-    for v in [2 * (top + y + i) + dy for i in range(n)]:
-        rows.append(tuple([half_value(picture, v, 2 * (x + k) + dx) for k in range(n)]))
-    return tuple(rows)
+    return tuple([tuple([mean(asked) for asked in row]) for row in asked_by_motion(picture, top, area, dy, dx)])
 
 
 def moved(picture, top, area, dy, dx):

@@ -92,33 +92,49 @@ def size_of_tree(tree):
     raise InvalidTree(tree)
 
 
-def leaves_within(tree, y, x, n):
-    """The leaves of the tree of the area (y, x, n), each behind its own area."""
-    if tree[0] == "leaf":
-        return [(y, x, n, tree)]
+def quarters_of(area):
+    """The areas of the four parts of a split, in their order."""
+    y, x, n = area
     half = n // 2
+    return [(y + down * half, x + right * half, half) for down, right in QUARTERS]
+
+
+def leaves_within(tree, area):
+    """The leaves of the tree of an area, each behind its own area."""
+    if tree[0] == "leaf":
+        return [(*area, tree)]
     found = []
-    for part, (down, right) in zip(tree[1], QUARTERS):
-        found.extend(leaves_within(part, y + down * half, x + right * half, half))
+    for part, quarter in zip(tree[1], quarters_of(area)):
+        found.extend(leaves_within(part, quarter))
     return found
+
+
+def area_of_block(block):
+    """The area of a block of a band."""
+    return (0, BLOCK * block, BLOCK)
 
 
 def leaves_of(tree):
     """The leaves of a tree in its order, each behind its own area."""
-    return tuple(leaves_within(tree, 0, 0, size_of_tree(tree)))
+    return tuple(leaves_within(tree, (0, 0, size_of_tree(tree))))
 
 
 def leaves_of_band(trees):
     """The leaves of what is known to be a band tree, each behind its own area of the band."""
     found = []
     for block, tree in enumerate(trees):
-        found.extend(leaves_within(tree, 0, BLOCK * block, BLOCK))
+        found.extend(leaves_within(tree, area_of_block(block)))
     return found
 
 
 def has_motion(trees):
     """Tell whether a leaf of this band tree is predicted from a kept picture."""
     return any(leaf[1] == "motion" for y, x, n, leaf in leaves_of_band(trees))
+
+
+def is_band_tree_of_kind(value, blocks, kind):
+    """Tell of any value whether it is a band tree of so many blocks that a picture of this kind can have."""
+    return is_band_tree(value, blocks) and not (kind == "key" and has_motion(value))
 
 
 def is_empty(levels):

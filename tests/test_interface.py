@@ -57,6 +57,29 @@ FUNCTIONS = {
     "leaves": {
         "band_shown": ["trees", "top", "slots"],
     },
+    "units": {
+        "unit_of": ["bands", "blocks", "many", "number", "kind", "keep", "band", "trees"],
+        "read_unit": ["value"],
+        "check_of": ["octets"],
+    },
+    "streams": {
+        "encoded": ["pictures", "plan", "window"],
+        "shown": ["values"],
+        "units_of": ["values"],
+        "is_stream": ["value"],
+        "kinds_of": ["units"],
+    },
+    "reaching": {
+        "reach": ["units", "lost"],
+        "reach_counts": ["units", "lost"],
+        "ends_at": ["units", "number"],
+        "worst_unit": ["units"],
+    },
+    "choices": {
+        "coded_band": ["rows", "top", "slots", "kind", "bound", "window"],
+        "price_paper": ["rows", "top", "slots", "kind", "window"],
+        "price_holds": ["rows", "top", "slots", "kind", "window", "paper"],
+    },
 }
 
 CLASSES = {
