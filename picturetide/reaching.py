@@ -71,13 +71,18 @@ def marks_of_stream(told, lost):
     return found
 
 
+def is_pair_of(told, value):
+    """Tell of any value whether it is a pair of the numbers of a picture and a band of a stream."""
+    bands, _, many = told.size
+    if not isinstance(value, tuple) or len(value) != 2:
+        return False
+    return is_number_below(value[0], many) and is_number_below(value[1], bands)
+
+
 def check_lost(told, lost):
     """Raise InvalidNumber with the first that is no pair of the numbers of a picture and a band."""
-    bands, _, many = told.size
     for pair in lost:
-        if not isinstance(pair, tuple) or len(pair) != 2:
-            raise InvalidNumber(pair)
-        if not is_number_below(pair[0], many) or not is_number_below(pair[1], bands):
+        if not is_pair_of(told, pair):
             raise InvalidNumber(pair)
 
 

@@ -172,15 +172,21 @@ def coded_picture(pictures, number, part, slots, window):
     return (units, rows)
 
 
+def coded_in_turn(plan, code):
+    """All that code tells of each picture, by its number and the slots that it finds; what it shows comes second."""
+    slots = EMPTY_SLOTS
+    found = []
+    for number, (kind, keep, _) in enumerate(plan):
+        slots = slots_ahead(slots, kind, None)
+        coded = code(number, slots)
+        slots = slots_behind(slots, keep, coded[1])
+        found.append(coded)
+    return found
+
+
 def encoded(pictures, plan, window):
     """The stream of pictures, each coded as its part of the plan tells."""
     check_pictures(pictures)
     check_plan(plan, len(pictures))
-    slots = EMPTY_SLOTS
-    found = []
-    for number, part in enumerate(plan):
-        slots = slots_ahead(slots, part[0], None)
-        units, picture = coded_picture(pictures, number, part, slots, window)
-        slots = slots_behind(slots, part[1], picture)
-        found.extend(units)
-    return tuple(found)
+    coded = coded_in_turn(plan, lambda number, slots: coded_picture(pictures, number, plan[number], slots, window))
+    return tuple([unit for units, picture in coded for unit in units])

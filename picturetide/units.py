@@ -25,6 +25,11 @@ def check_of(octets):
     return check
 
 
+def with_check(octets):
+    """These octets with their check behind them."""
+    return octets + figures(check_of(octets), TAIL)
+
+
 def unit_of(bands, blocks, many, number, kind, keep, band, trees):
     """The unit of a band of the picture of this number, of many pictures with so many bands and blocks."""
     if not is_band_tree_of_kind(trees, blocks, kind):
@@ -32,8 +37,12 @@ def unit_of(bands, blocks, many, number, kind, keep, band, trees):
     payload = band_octets(trees)
     size = (SIGN, bands, blocks) + figures(many, 2)
     place = figures(number, 2) + (KINDS.index(kind), 0 if keep is None else keep + 1, band)
-    octets = size + place + figures(len(payload), 2) + payload
-    return octets + figures(check_of(octets), TAIL)
+    return with_check(size + place + figures(len(payload), 2) + payload)
+
+
+def renumbered(unit, many, number):
+    """The unit as that of the picture of this number of so many ones."""
+    return with_check(unit[:3] + figures(many, 2) + figures(number, 2) + unit[7:-TAIL])
 
 
 def is_row_of_octets(value):
@@ -75,6 +84,4 @@ def read_unit(value):
     if not is_row_of_octets(value) or len(value) < HEAD + TAIL or value[0] != SIGN:
         return None
     octets = value[:-TAIL]
-    if value[-TAIL:] != figures(check_of(octets), TAIL):
-        return None
-    return read_octets(octets)
+    return read_octets(octets) if with_check(octets) == value else None

@@ -80,6 +80,27 @@ FUNCTIONS = {
         "price_paper": ["rows", "top", "slots", "kind", "window"],
         "price_holds": ["rows", "top", "slots", "kind", "window", "paper"],
     },
+    "fitting": {
+        "length_of": ["units", "number"],
+        "fitted": ["pictures", "plan", "window", "most"],
+    },
+    "edits": {
+        "keys_of": ["units"],
+        "shown_from": ["units", "number"],
+        "cut": ["units", "start", "end"],
+        "joined": ["units", "other"],
+        "replaced": ["units", "start", "end", "other"],
+        "first_apart": ["units", "other"],
+        "greatest_errors": ["units", "pictures"],
+    },
+    "claims": {
+        "is_claim": ["value"],
+        "claim_holds": ["claim", "paper"],
+        "seal_claim": ["claim"],
+    },
+    "desk": {
+        "replayed": ["lines"],
+    },
 }
 
 CLASSES = {
@@ -102,6 +123,9 @@ CLASSES = {
     "coders": {
         "Coder": {"__init__": [], "put": ["context", "bit"], "octets": [], "state": []},
         "Decoder": {"__init__": ["octets"], "get": ["context"], "state": []},
+    },
+    "desk": {
+        "Desk": {"__init__": [], "run": ["line"]},
     },
 }
 
