@@ -15,8 +15,8 @@ FIGURES = "0123456789"
 WINDOWS = ("0", "1")
 KEEPS = ("-", "0", "1", "2")
 
-# What the words of a line behind its first one must be: "new" is a name that gets a value; "picture", "stream" and
-# "any" are names of which a value of this sort is asked; a "part" is that of a plan, behind the name of its picture.
+# What the words of a line behind its first one must be: "new" is a name that gets a value; "stream" and "any" are names
+# of which a stream or any value is asked; a "part" begins with a name of which a picture is asked.
 FORMS = {
     "picture": ("new", "text"),
     "code": ("new", "window", "part"),
@@ -66,8 +66,8 @@ def is_part(word):
 
 
 RIGHT_WORDS = {
-    "new": is_name, "picture": is_name, "stream": is_name, "any": is_name, "number": is_told_number,
-    "window": is_window, "text": is_text, "part": is_part,
+    "new": is_name, "stream": is_name, "any": is_name, "number": is_told_number, "window": is_window, "text": is_text,
+    "part": is_part,
 }
 
 

@@ -2,10 +2,9 @@
 
 from picturetide.basics import is_number_below
 from picturetide.errors import InvalidNumber, TooLong
-from picturetide.pictures import VALUE_LIMIT
 from picturetide.streams import check_pictures, check_plan, coded_in_turn, coded_picture, told_by_stream
 
-GREATEST_BOUND = VALUE_LIMIT - 1
+GREATEST_BOUND = 255
 
 
 def octets_in(units):

@@ -13,7 +13,8 @@ from picturetide.reaching import reach
 from picturetide.streams import encoded, shown
 from picturetide.trees import is_band_tree, price_of_band
 from samples import (
-    FAR, NO_BAND_TREES, NO_PICTURES, drawn_picture, leaf_of, motion_of, nested, picture_of, split_of, with_value,
+    FAR, NO_BAND_TREES, NO_PICTURES, drawn_picture, is_made_of_integers, leaf_of, motion_of, nested, picture_of, split_of,
+    with_value,
 )
 from stream_models import model_is_exact, model_ways
 from stream_samples import drawn_lost, drawn_stream, moved_picture, pairs_of
@@ -66,9 +67,10 @@ class Claims(unittest.TestCase):
         paper = self.paper_of(claim)
         before = copy.deepcopy(claim)
         with self.subTest(claim=claim):
-            self.assertEqual(seal_claim(claim), paper)
+            found = seal_claim(claim)
+            self.assertEqual(found, paper)
+            self.assertTrue(is_made_of_integers(found))
             self.assertEqual(seal_claim(claim=claim), paper)
-            self.assertIs(type(seal_claim(claim)), tuple)
             self.assert_holds(claim, paper, True)
         self.assertEqual(claim, before)
 

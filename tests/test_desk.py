@@ -152,6 +152,15 @@ class Answers(Desks):
         self.assert_answers(desk, PICTURES[0], TEXTS["a"])
         self.assert_answers(desk, CODE, octets(UNITS))
 
+    def test_names_that_begin_lines(self):
+        desk = full_desk()
+        for name in ("undo", "redo", "show", "drop", "same"):
+            self.assert_answers(desk, f"join {name} s s", "4")
+            self.assert_answers(desk, f"same {name} {name}", "same")
+            self.assert_answers(desk, f"join t one {name}", "5")
+            self.assert_answers(desk, f"drop {name}", "")
+            self.assert_raises(UnknownName, f"same {name} {name}", {"name": name}, desk)
+
     def test_a_newer_value_in_place_of_the_elder(self):
         desk = full_desk()
         desk.run(f"picture s {TEXTS['b']}")
@@ -190,7 +199,7 @@ class WrongLines(Desks):
     def test_words_too_many(self):
         for line in ("undo", "redo", "show s 0", "lose s 0 0", "reach s 0 0", "cut t s 0 1", "join t s s", "same s s",
                      "drop a", PICTURES[0]):
-            for more in ("", "x", "0", "a b", "!"):
+            for more in ("", "x", "0", "a b", "!", "a:key:-:0"):
                 self.assert_wrong(f"{line} {more}", len(line) + 1)
 
     def test_two_blanks(self):

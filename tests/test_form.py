@@ -230,6 +230,22 @@ class Form(unittest.TestCase):
             if node.attr not in known | METHODS_OF_VALUES and not node.attr.startswith("__")
         ])
 
+    def test_attributes_have_no_names_of_methods_of_values(self):
+        free = set("count index title find get join lower upper split strip copy add".split())
+        barred = {name for kind in (str, int, list, dict, set, bytes, tuple) for name in dir(kind)} - free
+        for path in sources():
+            for node in nodes_of(path):
+                if isinstance(node, ast.Attribute) and isinstance(node.ctx, ast.Store):
+                    with self.subTest(path=path.name, line=node.lineno):
+                        self.assertNotIn(node.attr, barred | BARRED_NAMES | {"format", "args", "sort"})
+
+    def test_what_stands_behind_a_star_in_a_call_is_a_name(self):
+        for path in sources():
+            calls = [node for node in nodes_of(path) if isinstance(node, ast.Call)]
+            stars = [one for call in calls for one in call.args if isinstance(one, ast.Starred)]
+            with self.subTest(path=path.name):
+                self.assert_none([star.lineno for star in stars if not isinstance(star.value, ast.Name)])
+
 
 if __name__ == "__main__":
     unittest.main()

@@ -5,6 +5,7 @@ import unittest
 from picturetide.errors import InvalidNumber, InvalidStream
 from picturetide.reaching import ends_at, reach, reach_counts, worst_unit
 from picturetide.streams import encoded, kinds_of, shown
+from repairs import RepairTest
 from samples import FAR, drawn_picture, is_made_of_integers, leaf_of, motion_of, nested, split_of
 from stream_models import model_reach
 from stream_samples import (
@@ -257,26 +258,8 @@ class Reach(unittest.TestCase):
             self.assert_reach(units, lost, model_reach(units, lost))
 
 
-class Repairs(unittest.TestCase):
+class Repairs(RepairTest):
     """The bold sentence of point 18."""
-
-    def assert_unreached_as_before(self, units, lost, values):
-        whole = shown(units)
-        found = shown(values)
-        if found == ():
-            self.assertEqual(rest_of(units, lost), ())
-            return
-        for picture, other, reached in zip(whole, found, reach(units, lost)):
-            for y, row in enumerate(picture):
-                for x, value in enumerate(row):
-                    if (y, x) not in reached:
-                        self.assertEqual(other[y][x], value)
-        ahead = ((128,) * len(whole[0][0]),) * len(whole[0])
-        for number, picture in enumerate(found):
-            for band in range(len(picture) // 8):
-                if (number, band) in lost:
-                    self.assertEqual(picture[8 * band:8 * band + 8], ahead[8 * band:8 * band + 8])
-            ahead = picture
 
     def test_drawn_losses(self):
         source = random.Random(114)
@@ -288,7 +271,7 @@ class Repairs(unittest.TestCase):
             values = mixed(source, left) + [broken(source, source.choice(units)) for _ in range(2)]
             source.shuffle(values)
             with self.subTest(size=size, lost=lost):
-                self.assert_unreached_as_before(units, lost, values)
+                self.assert_repaired(units, lost, values)
                 changed += shown(values) not in ((), shown(units))
         self.assertGreater(changed, 8)
 
@@ -297,7 +280,7 @@ class Repairs(unittest.TestCase):
         for size in ((1, 1, 6), (2, 1, 4), (2, 2, 2), (3, 1, 3)):
             units = drawn_stream(source, size)
             for pair in pairs_of(units):
-                self.assert_unreached_as_before(units, [pair], rest_of(units, [pair])[::-1])
+                self.assert_repaired(units, [pair], rest_of(units, [pair])[::-1])
 
     def test_each_picture_wholly_lost(self):
         source = random.Random(116)
@@ -306,7 +289,7 @@ class Repairs(unittest.TestCase):
                 units = drawn_stream(source, size)
                 for number in range(size[2]):
                     lost = [pair for pair in pairs_of(units) if pair[0] == number]
-                    self.assert_unreached_as_before(units, lost, mixed(source, rest_of(units, lost)))
+                    self.assert_repaired(units, lost, mixed(source, rest_of(units, lost)))
 
     def test_what_ends_at_a_key_picture(self):
         source = random.Random(117)

@@ -9,11 +9,11 @@ from picturetide.claims import claim_holds, seal_claim
 from picturetide.edits import cut, first_apart, greatest_errors, joined, keys_of, replaced, shown_from
 from picturetide.errors import NoKey
 from picturetide.fitting import fitted, length_of
-from picturetide.pictures import plain
 from picturetide.reaching import ends_at, reach, reach_counts, worst_unit
 from picturetide.streams import encoded, is_stream, kinds_of, shown, units_of
 from picturetide.trees import price_of_band
 from picturetide.units import read_unit
+from repairs import RepairTest
 from stream_samples import broken, drawn_lost, mixed, pairs_of, rest_of
 from test_encoded import drawn_plan, drawn_row
 
@@ -105,25 +105,7 @@ def encoded_stream(source, question):
     return encoded(*drawn_question(source, question))
 
 
-class Losses(unittest.TestCase):
-    def assert_repaired(self, units, lost, values):
-        """What is shown without what is lost: unlike only where it is reached, and repaired where it is lost."""
-        whole, found = shown(units), shown(values)
-        if not rest_of(units, lost):
-            self.assertEqual(found, ())
-            return
-        reached = reach(units, lost)
-        self.assertEqual(reach_counts(units, lost), tuple(len(places) for places in reached))
-        ahead = plain(len(whole[0]), len(whole[0][0]), 128)
-        for number, picture in enumerate(found):
-            unlike = {(y, x) for y, row in enumerate(picture) for x, value in enumerate(row)
-                      if value != whole[number][y][x]}
-            self.assertLessEqual(unlike, set(reached[number]))
-            for band in range(len(picture) // 8):
-                if (number, band) in lost:
-                    self.assertEqual(picture[8 * band:8 * band + 8], ahead[8 * band:8 * band + 8])
-            ahead = picture
-
+class Losses(RepairTest):
     def test_what_is_left_doubled_and_mixed_up(self):
         source = random.Random(186)
         for question in QUESTIONS * 2:
@@ -174,7 +156,7 @@ class Losses(unittest.TestCase):
                             self.assertEqual(picture[y][x], shown(units)[number][y][x])
 
 
-class Editing(unittest.TestCase):
+class Editing(RepairTest):
     def test_cuts_joints_and_seeks(self):
         source = random.Random(190)
         for question in [(8, 8, 4, 0), (16, 8, 2, 0), (8, 16, 2, 0), (8, 8, 3, 0)] * 3:
@@ -215,17 +197,16 @@ class Editing(unittest.TestCase):
 
     def test_losses_of_edited_streams(self):
         source = random.Random(192)
-        losses = Losses()
         for question in [(8, 8, 4, 0), (16, 8, 2, 0), (8, 16, 2, 0)]:
             units, other = encoded_stream(source, question), encoded_stream(source, question)
             for edited in (joined(units, other), cut(joined(units, other), question[2], 2 * question[2]),
                            replaced(units, 0, question[2], other)):
                 lost = drawn_lost(source, edited)
-                losses.assert_repaired(edited, lost, mixed(source, rest_of(edited, lost)))
+                self.assert_repaired(edited, lost, mixed(source, rest_of(edited, lost)))
                 # Units of the uncut stream tell another number of pictures: behind others they are passed over.
                 if rest_of(edited, lost) and edited[0][:5] != units[0][:5]:
                     values = list(rest_of(edited, lost)) + list(units)
-                    losses.assert_repaired(edited, lost, values)
+                    self.assert_repaired(edited, lost, values)
 
 
 if __name__ == "__main__":
