@@ -77,6 +77,9 @@ class Answers(Desks):
             for text in TEXTS.values():
                 self.assert_answers(desk, f"picture {name} {text}", text)
         self.assertEqual(desk.run(line=f"picture a {TEXTS['a']}"), TEXTS["a"])
+        for rows in (8, 16, 24, 32):
+            text = picture_text(picture_of(rows, 32))
+            self.assert_answers(desk, f"picture big {text}", text)
 
     def test_code(self):
         desk = full_desk()
